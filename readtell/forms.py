@@ -6,7 +6,7 @@ from readtell.signs import is_number, is_set, is_text, is_told
 BARE = ("text", "skip")
 
 # Each word that a form may begin with, and how many items its tuple has.
-_LENGTHS = {
+LENGTHS = {
     "text": 2, "skip": 2, "sign": 2, "word": 2, "number": 1, "pick": 2, "spelt": 2,
     "row": 2, "either": 2, "again": 3, "counted": 3, "turned": 3, "named": 2,
 }
@@ -82,7 +82,7 @@ def _has_shape(x):
     """Whether this, of any kind, is a form if what stands as a form right within it is one."""
     if not isinstance(x, tuple) or not x or not isinstance(x[0], str):
         return False
-    if len(x) != _LENGTHS.get(x[0]):
+    if len(x) != LENGTHS.get(x[0]):
         return False
     holds = _SHAPES[x[0]]
     return holds(x)

@@ -1,4 +1,7 @@
-"""Least texts: the least of all texts of a name's form, and the names met that have none."""
+"""Least texts: of the forms of names and of other items of rests, and the names met that have none.
+
+The lesser one of two texts is the shorter one, of as long ones the lesser one as texts are compared.
+"""
 
 from readtell.books import names_met
 from readtell.rows import form_table
@@ -6,22 +9,22 @@ from readtell.rows import form_table
 
 def least_text(book, name):
     """The least text of this name's form, None where it has none."""
-    return _least_texts(form_table(book)).get(name)
+    return least_texts(form_table(book)).get(name)
 
 
 def endless(book):
     """The rising tuple of the names met that have no text."""
-    leasts = _least_texts(form_table(book))
+    leasts = least_texts(form_table(book))
     return tuple([name for name in names_met(book) if name not in leasts])
 
 
-def _least_texts(table):
+def least_texts(table):
     """A dict from the names that have texts to the least ones."""
     leasts = {}
     while True:
         # No text is less than one in it. So of the names left, told by those done, the least text
         # is the least in the end, while the others may yet become less.
-        found = [(_least_of(table[name], leasts), name) for name in table if name not in leasts]
+        found = [(least_of(table[name], leasts), name) for name in table if name not in leasts]
         found = [pair for pair in found if pair[0] is not None]
         if not found:
             return leasts
@@ -29,32 +32,45 @@ def _least_texts(table):
         leasts[done] = text
 
 
-def _least_of(form, leasts):
-    """The least text of a form by those of names, None where they lead to none."""
-    word = form[0]
+def least_of(item, leasts):
+    """The least text of a form, or of another item of a rest, by those of names; None where they lead to none."""
+    word = item[0]
     if word == "text":
-        return form[1]
+        return item[1]
     if word in ("sign", "word"):
-        return form[1][0]
+        return item[1][0]
     if word == "number":
         return "0"
     if word == "pick":
-        return _lesser([text for text, _ in form[1]])
+        return _least([text for text, _ in item[1]])
+    if word == "left":
+        return _least(item[1])
     if word in ("spelt", "again"):
         return ""
     if word == "counted":
-        return "0" + form[1]
+        return "0" + item[1]
+    if word == "due":
+        return _joined([item[2]] + [least_of(item[3], leasts)] * item[1])
     if word == "row":
-        texts = [_least_of(inner, leasts) for inner in form[1]]
-        return None if None in texts else "".join(texts)
+        return _joined([least_of(inner, leasts) for inner in item[1]])
     if word == "either":
-        return _lesser([_least_of(inner, leasts) for _, inner in form[1]])
+        return _least([least_of(inner, leasts) for _, inner in item[1]])
     if word == "named":
-        return leasts.get(form[1])
-    return _least_of(form[1], leasts)
+        return leasts.get(item[1])
+    return least_of(item[1], leasts)
 
 
-def _lesser(texts):
-    """The least of these texts, some of which may be None."""
-    found = [text for text in texts if text is not None]
-    return min(found, key=lambda told: (len(told), told), default=None)
+def lesser_first(texts):
+    """The list of these texts, the lesser ones first."""
+    return sorted(texts, key=lambda text: (len(text), text))
+
+
+def _joined(texts):
+    """These texts, one behind another, None where one of them is None."""
+    return None if None in texts else "".join(texts)
+
+
+def _least(texts):
+    """The least of these texts, some of which may be None; None where all are."""
+    found = lesser_first([text for text in texts if text is not None])
+    return found[0] if found else None

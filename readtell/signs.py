@@ -44,3 +44,13 @@ def number_of_figures(figures):
     for figure in figures:
         number = number * 10 + int(figure)
     return number
+
+
+def figures_of(number):
+    """The figures of a whole number from 0, however many (Python's own str refuses very many)."""
+    figures = []
+    while number > 9:
+        number, figure = divmod(number, 10)
+        figures.append(FIGURES[figure])
+    figures.append(FIGURES[number])
+    return "".join(figures[::-1])

@@ -12,9 +12,10 @@ def walked(book, text, way):
         return None
     walk = Walk(form_table(book), text, way)
     walk.todo.append(("named", book[0]))
-    if not _walk_through(walk) or walk.place != len(text) or walk.taken != len(way):
-        return None
-    return walk.worths[0]
+    while walk.todo:
+        if not walk_on(walk, walk.todo.pop()):
+            return None
+    return walk.worths[0] if walk.place == len(text) and walk.taken == len(way) else None
 
 
 def shows_read(book, text, way, worth):
@@ -54,27 +55,26 @@ class Walk:
         self.place += 1
         return self.text[self.place - 1]
 
-    def choice(self, many):
-        """What the way chooses here, below many, or None where it has no such choice here."""
+    def choice(self, options):
+        """The number of the option that the way chooses here, None where it has no such choice here.
+
+        Each option is a tuple of the forms to be walked through next if it is chosen.
+        """
         if self.taken >= len(self.way):
             return None
         step = self.way[self.taken]
         if not isinstance(step, tuple) or len(step) != 2 or not is_int(step[0]) or not is_int(step[1]):
             return None
-        if step[0] != self.place or not 0 <= step[1] < many:
+        if step[0] != self.place or not 0 <= step[1] < len(options):
             return None
         self.taken += 1
         return step[1]
 
 
-def _walk_through(walk):
-    """Whether all that is to be done can be done."""
-    while walk.todo:
-        item = walk.todo.pop()
-        step = _STEPS[item[0]]
-        if not step(walk, item):
-            return False
-    return True
+def walk_on(walk, item):
+    """Does one thing that is to be done, and tells whether it could."""
+    step = _STEPS[item[0]]
+    return step(walk, item)
 
 
 # Each of these does one thing that is to be done, and tells whether it could. A form leaves one
@@ -129,7 +129,7 @@ def _one_and_more(walk, signs):
         if sign is None:
             return None
         found.append(sign)
-        choice = walk.choice(2)
+        choice = walk.choice([(), (("sign", signs),)])
     return None if choice is None else "".join(found)
 
 
@@ -148,7 +148,7 @@ def _walk_spelt(walk, form):
 
 def _more_spelt(walk, item):
     _, form, many = item
-    choice = walk.choice(2)
+    choice = walk.choice([(), (form,)])
     if choice == 0:
         walk.worths.append("".join(_last_worths(walk, many)))
     elif choice == 1:
@@ -170,7 +170,7 @@ def _end_row(walk, item):
 
 
 def _walk_either(walk, form):
-    choice = walk.choice(len(form[1]))
+    choice = walk.choice([(inner,) for _, inner in form[1]])
     if choice is None:
         return False
     name, inner = form[1][choice]
@@ -192,13 +192,15 @@ def _walk_again(walk, form):
 
 def _more_again(walk, item):
     _, form, many = item
-    choice = walk.choice(2)
+    inner, between = form[1], form[2]
+    spaced = many > 0 and between is not None
+    choice = walk.choice([(), (between, inner) if spaced else (inner,)])
     if choice == 0:
         walk.worths.append(tuple(_last_worths(walk, many)))
     elif choice == 1:
-        walk.todo.extend([("going on", form, many + 1), form[1]])
-        if many > 0 and form[2] is not None:
-            walk.todo.extend([("between",), form[2]])
+        walk.todo.extend([("going on", form, many + 1), inner])
+        if spaced:
+            walk.todo.extend([("between",), between])
     return choice is not None
 
 
@@ -213,7 +215,7 @@ def _walk_counted(walk, form):
     if figures is None:
         return False
     if figures != "0":
-        choice = walk.choice(2)
+        choice = walk.choice([(), (("sign", FIGURES),)])
         if choice is None:
             return False
         more = "" if choice == 0 else walk.one_of(FIGURES)

@@ -2,6 +2,8 @@
 
 import unittest
 
+from readtell.errors import Fails
+
 
 class Odd:
     """A thing of a kind of its own, which can't be compared, measured, tested or hashed."""
@@ -44,6 +46,24 @@ class Asking(unittest.TestCase):
         self.assertEqual(before, snapshot(handed))
         self.assertTrue(is_plain(answer), answer)
         return answer
+
+    def refused(self, refusal, function, *handed):
+        """Refused with just this refusal, asked twice; its values where it has any."""
+        before = snapshot(handed)
+        values = []
+        for _ in range(2):
+            with self.assertRaises(refusal) as caught:
+                function(*handed)
+            self.assertIs(type(caught.exception), refusal)
+            values.append(tuple(vars(caught.exception).values()))
+        self.assertEqual(snapshot(values[0]), snapshot(values[1]))
+        self.assertEqual(before, snapshot(handed))
+        self.assertTrue(is_plain(values[0]), values[0])
+        return values[0]
+
+    def fails(self, place, wants, end, function, *handed):
+        """Refused with Fails, with just these values."""
+        self.assertEqual(snapshot((place, wants, end)), snapshot(self.refused(Fails, function, *handed)), handed)
 
     def yes(self, function, *handed):
         self.assertIs(self.told(function, *handed), True, handed)

@@ -10,7 +10,7 @@ from readtell.walking import shows_read, walked
 from tests.asking import Asking
 from tests.brute import go_apart
 from tests.test_books import A, book
-from tests.test_forms import FORMS, NUMBER, SIGNS
+from tests.test_forms import NUMBER, SIGNS
 from tests.test_leasts import IN_NEED
 
 B = ("named", "b")

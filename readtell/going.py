@@ -1,0 +1,38 @@
+"""How a text goes on, and how one that isn't the book's is mended."""
+
+from readtell.failing import rest_behind, rests_along
+from readtell.leasts import least_of, least_texts, lesser_first
+from readtell.restnumbers import Rests
+
+
+def goes_on(book, text):
+    """The least text behind this one that makes it one of the book's, None where there is none."""
+    rests = Rests(book)
+    rest = rest_behind(rests, text)
+    if rest is None:
+        return None
+    leasts = least_texts(rests.openings.table)
+    return "".join([least_of(item, leasts) for item in rests.listed(rest)])
+
+
+def mends(book, text):
+    """The tuple of the book's texts that come of this one, which is none, by one sign otherwise."""
+    rests = Rests(book)
+    found = {}
+    for place, rest in enumerate(rests_along(rests, text)):
+        here = [("", rest)] + [(sign, rests.step(rest, sign)) for sign in rests.wanted(rest)]
+        for told, coming in here:
+            # With nothing told and nothing left out that is the text itself, which never reads.
+            for later in (text[place:], text[place + 1:]):
+                if _reads_on(rests, coming, later):
+                    found[text[:place] + told + later] = True
+    return tuple(lesser_first(list(found)))
+
+
+def _reads_on(rests, rest, text):
+    """Whether this text is one of the rest's."""
+    for sign in text:
+        rest = rests.step(rest, sign)
+        if rest is None:
+            return False
+    return rests.may_end(rest)
