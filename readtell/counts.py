@@ -54,7 +54,8 @@ def _rests_behind_items(rests):
     while todo:
         item = todo.pop()
         if item not in behind:
-            found = [rests.item_behind(item, sign) for sign in rests.signs[item]]
+            signs = rests.signs[item]
+            found = [rests.item_behind(item, sign) for sign in signs]
             behind[item] = [rests.ahead(items, EMPTY) for items in found]
             for items in found:
                 todo.extend(items)

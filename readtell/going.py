@@ -18,8 +18,9 @@ def goes_on(book, text):
 def mends(book, text):
     """The tuple of the book's texts that come of this one, which is none, by one sign otherwise."""
     rests = Rests(book)
+    along = rests_along(rests, text)
     found = {}
-    for place, rest in enumerate(rests_along(rests, text)):
+    for place, rest in enumerate(along):
         here = [("", rest)] + [(sign, rests.step(rest, sign)) for sign in rests.wanted(rest)]
         for told, coming in here:
             # With nothing told and nothing left out that is the text itself, which never reads.
