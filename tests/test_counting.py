@@ -5,6 +5,7 @@ import unittest
 from readtell.books import is_book
 from readtell.counting import how_many
 from readtell.looking import verdict
+from readtell.rests import begun, behind, may_end, wants
 from tests.asking import Asking
 from tests.brute import walks_of
 from tests.samples import (
@@ -111,6 +112,19 @@ class HowMany(Asking):
                 for length in range(4 - len(begin)):
                     known = [told for told in texts if told.startswith(begin) and len(told) == len(begin) + length]
                     self.assertEqual(many[length], len(known), (asked, begin))
+
+    def test_behind_each_sign(self):
+        for asked, told, _ in TOLD:
+            if asked == VALUES and len(told) > 8:
+                continue
+            rest = begun(asked)
+            for place, sign in enumerate(told[:20]):
+                counted_on = [1 if may_end(asked, rest) else 0, 0, 0, 0]
+                for coming in wants(asked, rest):
+                    for length, many in enumerate(how_many(asked, told[:place] + coming, 2)):
+                        counted_on[length + 1] += many
+                self.assertEqual(list(how_many(asked, told[:place], 3)), counted_on)
+                rest = behind(asked, rest, sign)
 
     def test_two_books_by_turns(self):
         one, other = book(a=again(B), b=AB), book(a=again(B), b=COMMA)
