@@ -106,7 +106,7 @@ def _pick_shape(form):
     for text, thing in form[1]:
         if not is_told(text) or not (is_text(thing) or is_number(thing)):
             return False
-    return _none_begins_another([pair[0] for pair in form[1]]) and _unlike([pair[1] for pair in form[1]])
+    return none_begins_another([pair[0] for pair in form[1]]) and _unlike([pair[1] for pair in form[1]])
 
 
 def _spelt_shape(form):
@@ -163,7 +163,7 @@ def _unlike(many):
     return len(set(many)) == len(many)
 
 
-def _none_begins_another(texts):
+def none_begins_another(texts):
     # Where one text begins another one, it begins the next one in order, too.
     rising = sorted(texts)
     return not any(rising[k + 1].startswith(rising[k]) for k in range(len(rising) - 1))

@@ -1,7 +1,8 @@
 """How a text goes on, and how one that isn't the book's is mended."""
 
 from readtell.failing import rest_behind, rests_along
-from readtell.leasts import least_of, least_texts, lesser_first
+from readtell.leasts import lesser_first
+from readtell.restleasts import RestLeasts
 from readtell.restnumbers import Rests
 
 
@@ -11,8 +12,7 @@ def goes_on(book, text):
     rest = rest_behind(rests, text)
     if rest is None:
         return None
-    leasts = least_texts(rests.openings.table)
-    return "".join([least_of(item, leasts) for item in rests.listed(rest)])
+    return RestLeasts(rests).of_rest(rest)
 
 
 def mends(book, text):

@@ -21,6 +21,7 @@ class Rests:
         self.heads = [None]
         self.tails = [EMPTY]
         self.known = {}
+        self.known_wants = {}
         # By the number of an item.
         self.numbers = ItemNumbers()
         self.item_of = {}
@@ -52,13 +53,17 @@ class Rests:
             rest = self.known[key]
         return rest
 
-    def listed(self, rest):
-        """The list of the items of the rest."""
+    def numbers_in(self, rest):
+        """The list of the numbers of the rest's items."""
         found = []
         while rest != EMPTY:
-            found.append(self.item_of[self.heads[rest]])
+            found.append(self.heads[rest])
             rest = self.tails[rest]
         return found
+
+    def listed(self, rest):
+        """The list of the items of the rest."""
+        return [self.item_of[number] for number in self.numbers_in(rest)]
 
     def may_end(self, rest):
         """Whether all items of the rest may be empty."""
@@ -68,13 +73,19 @@ class Rests:
 
     def wanted(self, rest):
         """The rising text of the signs with which the rest can begin."""
+        if rest not in self.known_wants:
+            self.known_wants[rest] = "".join(sorted(set("".join(self.signs_ahead(rest)))))
+        return self.known_wants[rest]
+
+    def signs_ahead(self, rest):
+        """The list of the signs of each of the rest's items with which it can begin."""
         found = []
         while rest != EMPTY:
             found.append(self.signs[self.heads[rest]])
             if not self.empty[self.heads[rest]]:
                 break
             rest = self.tails[rest]
-        return "".join(sorted(set("".join(found))))
+        return found
 
     def step(self, rest, sign):
         """The rest behind the sign, None where the rest can't begin so."""

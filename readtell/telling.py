@@ -1,5 +1,6 @@
 """Telling: the least text of a worth, and the book of the texts so told."""
 
+from readtell.changing import changed
 from readtell.errors import NoWorth
 from readtell.leasts import least_of, least_texts
 from readtell.rows import form_table
@@ -22,21 +23,7 @@ def told_book(book):
 
 def _told_form(form, leasts):
     """The form with, for each skip in it, the text that tells it."""
-    word = form[0]
-    if word == "skip":
-        return _told_skip(form, leasts)
-    if word == "row":
-        return (word, tuple([_told_form(inner, leasts) for inner in form[1]]))
-    if word == "either":
-        return (word, tuple([(name, _told_form(inner, leasts)) for name, inner in form[1]]))
-    if word == "again":
-        between = None if form[2] is None else _told_form(form[2], leasts)
-        return (word, _told_form(form[1], leasts), between)
-    if word == "counted":
-        return (word, form[1], _told_form(form[2], leasts))
-    if word == "turned":
-        return (word, _told_form(form[1], leasts), form[2])
-    return form
+    return changed(form, lambda part, before: _told_skip(before, leasts) if part[0] == "skip" else part)
 
 
 def _told_skip(form, leasts):
