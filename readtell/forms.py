@@ -1,6 +1,7 @@
 """Names, things and forms: what is one, and what is none."""
 
 from readtell.signs import is_number, is_set, is_text, is_told
+from readtell.thingnumbers import ThingNumbers
 
 # The words of the forms whose only worth is ().
 BARE = ("text", "skip")
@@ -135,8 +136,8 @@ def _again_shape(form):
 def _turned_shape(form):
     if not _are_pairs(form[2]) or not is_thing(form[2]):
         return False
-    things = [thing for pair in form[2] for thing in pair]
-    return not any(things[k] in things[:k] for k in range(len(things)))
+    numbers = ThingNumbers()
+    return _unlike([numbers.number(thing) for pair in form[2] for thing in pair])
 
 
 def _named_shape(form):
