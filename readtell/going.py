@@ -19,21 +19,32 @@ def mends(book, text):
     """The tuple of the book's texts that come of this one, which is none, by one sign otherwise."""
     rests = Rests(book)
     along = rests_along(rests, text)
+    known = {}
     found = {}
     for place, rest in enumerate(along):
         here = [("", rest)] + [(sign, rests.step(rest, sign)) for sign in rests.wanted(rest)]
         for told, coming in here:
             # With nothing told and nothing left out that is the text itself, which never reads.
-            for later in (text[place:], text[place + 1:]):
-                if _reads_on(rests, coming, later):
-                    found[text[:place] + told + later] = True
+            for later in (place, place + 1):
+                if _reads_on(rests, known, coming, text, later):
+                    found[text[:place] + told + text[later:]] = True
     return tuple(lesser_first(list(found)))
 
 
-def _reads_on(rests, rest, text):
-    """Whether this text is one of the rest's."""
-    for sign in text:
-        rest = rests.step(rest, sign)
-        if rest is None:
-            return False
-    return rests.may_end(rest)
+def _reads_on(rests, known, rest, text, place):
+    """Whether what stands in the text from a place on is one of the rest's texts.
+
+    What is known of rests and places is told by a dict, which what is found here is put into.
+    """
+    passed = []
+    while rest is not None and (rest, place) not in known and place < len(text):
+        passed.append((rest, place))
+        rest = rests.step(rest, text[place])
+        place += 1
+    if rest is None:
+        answer = False
+    else:
+        answer = known[(rest, place)] if (rest, place) in known else rests.may_end(rest)
+    for key in passed:
+        known[key] = answer
+    return answer

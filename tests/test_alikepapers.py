@@ -4,7 +4,7 @@ import unittest
 
 from readtell.alikepapers import shows_alike
 from readtell.holding import held
-from tests.asking import OTHER_KINDS, Asking, nested
+from tests.asking import OTHER_KINDS, Asking, Odd, nested
 from tests.pairs_by_words import is_paper
 from tests.samples import (
     A, AB, B, BRACKETS, COMMA, COUNTS, EMPTY, LET_BOOKS, MAYBE, NUMBER, PICK, SUMS, VALUES, WORD, again, book, counted,
@@ -65,6 +65,12 @@ NO_ITEMS = (
     ("due", 1, ":", "a"), ("due", 1, ":", LEFT), ("due", 1, ":", AB, AB), ["due", 1, ":", AB], ("due", 1, ":", ["sign", "ab"]),
     ("Left", ("b",)), ("", ("b",)), (None, ("b",)), (("left",), ("b",)), ["left", ("b",)], ("rest", ()), "left", (), ((),),
 )
+
+
+# Pairs with all that may come behind a sign of these, and of what is nearly an item.
+COMPANY = ITEMS + tuple(((item,), (item,)) for item in (
+    DUE, LEFT, AB, COMMA, text(":"), text("a"), text("b"), text("c"), ("left", ("a",)), ("left", ("c",)), ("left", ("d",)),
+))
 
 
 def is_left(x):
@@ -168,9 +174,13 @@ class Spoilt(Asking):
                 self.no(shows_alike, BRACKETS, BRACKETS, ITEMS + (pair,))
 
     def test_no_items(self):
+        self.yes(shows_alike, BRACKETS, BRACKETS, COMPANY)
         for x in NO_ITEMS + tuple(x for x in NO_FORMS if not is_left(x)):
             for pair in (((x,), (x,)), ((x,), (CLOSE,)), ((CLOSE,), (x,)), ((CLOSE, x), (CLOSE, x)), ((skip(x),), (skip(x),))):
-                self.no(shows_alike, BRACKETS, BRACKETS, ITEMS + (pair,))
+                self.no(shows_alike, BRACKETS, BRACKETS, COMPANY + (pair,))
+        for first in (Odd(), Odd, ["due"], [], {}, None, 1, b"due"):
+            for x in ((first, 1, ":", AB), (first, ("b",)), (first,)):
+                self.no(shows_alike, BRACKETS, BRACKETS, COMPANY + (((x,), (x,)),))
 
     def test_items(self):
         for figure in range(1, 10):

@@ -47,6 +47,25 @@ OTHERWISE = (
     (row(COMMA, EMPTY, AB), row(COMMA, AB, EMPTY)), (EMPTY, row(EMPTY, either(EMPTY))), (EMPTY, skip(EMPTY)),
 )
 
+# What may be empty, beside what else it may be: cut unevenly.
+EMPTY_BESIDE = (
+    (row(COMMA, EMPTY, MAYBE), row(COMMA, MAYBE)), (row(COMMA, MAYBE), row(COMMA, EMPTY, EMPTY, MAYBE, EMPTY)),
+    (row(AB, MAYBE, either(EMPTY, NUMBER)), row(AB, either(EMPTY, NUMBER, row(COMMA, either(EMPTY, NUMBER))))),
+    (row(AB, either(EMPTY, NUMBER), MAYBE, AB), row(AB, either(EMPTY, COMMA, row(NUMBER, MAYBE)), AB)),
+    (row(AB, again(COMMA), again(text(";")), NUMBER), row(AB, EMPTY, again(COMMA), row(EMPTY), again(text(";")), NUMBER)),
+    (row(COMMA, text("a"), text("bcd"), text("e")), row(COMMA, text("ab"), text("c"), text("de"))),
+    (row(COMMA, text("a"), AB, text("xy"), text("z")), row(COMMA, text("a"), AB, text("x"), row(text("y"), EMPTY), text("z"))),
+)
+
+# Names within themselves, with texts ahead, between and behind that become one.
+NESTED = (
+    book(a=row(text("("), skip(text("x")), text("y"), again(A), text("u"), skip(skip(text("vw"))), text("x"), CLOSE)),
+    book(a=row(text("("), again(B, skip(COMMA)), text("."), CLOSE), b=row(text("<"), text("a"), A, text("b"), text("c"), text(">"))),
+    book(a=either(COMMA, row(text("("), A, text("a"), text("a"), B, text("ab"), text("a"), CLOSE)), b=row(text("!"), A, text("a"), text("!"))),
+    book(a=row(text("("), EMPTY, again(A), EMPTY, text(";"), text(";"), EMPTY, CLOSE, skip(EMPTY))),
+    book(a=row(counted(":", either(A, row(text("x"), text("y")))), text("a"), text("b"))),
+)
+
 # Two forms, and the least text that just one has.
 PARTED = (
     (text("a"), text("b"), "a"), (text("a"), text("aa"), "a"), (text("ab"), text("ac"), "ab"), (text("b"), EMPTY, ""),
@@ -157,6 +176,26 @@ class Alike(Asking):
         self.alike(asked, shorter(asked))
         self.alike(shorter(asked), asked)
         self.alike(asked, asked)
+
+    def test_rests_that_never_end_alike(self):
+        # What stands at the end of each rest is never one of a pair that was met: so rests must be cut into pieces.
+        for asked in (VALUES, SUMS, COUNTS, BRACKETS) + NESTED:
+            start = ("named", asked[0])
+            bottom = ("bottom", tuple(sorted(asked[1] + (("bottom", row(start, text("$"), skip(text("$")), text("~"))),))))
+            self.assertEqual((is_book(bottom), verdict(bottom)), (True, ("let",)))
+            self.assertIsNot(items_met(bottom, 1000), None)
+            names = {name: ("z" + name)[:8] for name, _ in bottom[1]}
+            for other in (bottom, shorter(bottom), with_names(bottom, names)):
+                self.alike(bottom, other)
+                self.alike(other, bottom)
+
+    def test_told_otherwise_with_rests_that_never_end_alike(self):
+        for one, other in OTHERWISE + EMPTY_BESIDE:
+            found = [("s", (("a", row(text("("), again(A), text("="), form, CLOSE)), ("s", row(A, text("$"))))) for form in (one, other)]
+            if verdict(found[0]) == ("let",):
+                self.alike(*found, never_open=False)
+                self.assertEqual(held(*found, MOST)[0], "alike", (one, other))
+                self.assertEqual(held(*found[::-1], MOST)[0], "alike", (one, other))
 
     def test_empty_items(self):
         forms = [row(EMPTY, COMMA), row(COMMA, EMPTY), row(EMPTY, COMMA, EMPTY), COMMA, row(skip(EMPTY), row(EMPTY), COMMA)]
