@@ -13,11 +13,12 @@ def folded(whole, inner_of, told_of):
         part, inner = todo.pop()
         if inner is None:
             inner = inner_of(part)
-            todo.append((part, inner))
-            todo.extend([(one, None) for one in inner[::-1]])
-        else:
-            start = len(done) - len(inner)
-            told = done[start:]
-            del done[start:]
-            done.append(told_of(part, told))
+            if inner:
+                todo.append((part, inner))
+                todo.extend([(one, None) for one in inner[::-1]])
+                continue
+        start = len(done) - len(inner)
+        told = done[start:]
+        del done[start:]
+        done.append(told_of(part, told))
     return done[0]

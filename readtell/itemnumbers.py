@@ -1,5 +1,7 @@
 """Numbers for forms and other items of rests: the same item has the same number, an unlike one another."""
 
+from readtell.folding import folded
+from readtell.items import inner_items
 from readtell.thingnumbers import ThingNumbers
 
 # The words of the items that no other items stand in; these may be keys themselves.
@@ -15,23 +17,27 @@ class ItemNumbers:
 
     def number(self, item):
         """The number of this item."""
-        return self.known.setdefault(self.keyed(item), len(self.known))
+        if item[0] in _ALONE:
+            return self.told_number(item, [])
+        return folded(item, inner_items, lambda part, inner: self.told_number(part, inner))
 
-    def keyed(self, item):
+    def told_number(self, item, inner):
+        """The number of this item, by the list of those of the items right within it."""
+        return self.known.setdefault(self.keyed(item, inner), len(self.known))
+
+    def keyed(self, item, inner):
         """What is the same for the same items: for items in this one their numbers stand."""
         word = item[0]
         if word in _ALONE:
             return item
-        if word == "row":
-            return (word,) + tuple([self.number(inner) for inner in item[1]])
         if word == "either":
-            return (word,) + tuple([(name, self.number(inner)) for name, inner in item[1]])
+            return (word,) + tuple([(pair[0], number) for pair, number in zip(item[1], inner)])
         if word == "again":
-            return (word, self.number(item[1]), None if item[2] is None else self.number(item[2]))
+            return (word, inner[0], None if item[2] is None else inner[1])
         if word == "counted":
-            return (word, item[1], self.number(item[2]))
+            return (word, item[1], inner[0])
         if word == "due":
-            return (word, item[1], item[2], self.number(item[3]))
+            return (word, item[1], item[2], inner[0])
         if word == "turned":
-            return (word, self.number(item[1]), self.things.number(item[2]))
-        return (word, self.number(item[1]))
+            return (word, inner[0], self.things.number(item[2]))
+        return (word,) + tuple(inner)

@@ -1,6 +1,6 @@
 """Items of rests: what is one, and which may stand in the rests of a book."""
 
-from readtell.forms import is_form, none_begins_another
+from readtell.forms import inner_forms, is_form, none_begins_another
 from readtell.rows import all_forms
 from readtell.signs import is_number, is_told
 
@@ -14,6 +14,11 @@ def is_item(x):
     if x[0] == "due":
         return len(x) == 4 and is_number(x[1]) and 1 <= x[1] <= 9 and is_told(x[2]) and is_form(x[3])
     return is_form(x)
+
+
+def inner_items(item):
+    """The list of the items right within an item, in order."""
+    return [item[3]] if item[0] == "due" else inner_forms(item)
 
 
 def forms_in(item):

@@ -4,6 +4,8 @@ The lesser one of two texts is the shorter one, of as long ones the lesser one a
 """
 
 from readtell.books import names_met
+from readtell.folding import folded
+from readtell.items import inner_items
 from readtell.rows import form_table
 
 
@@ -34,6 +36,11 @@ def least_texts(table):
 
 def least_of(item, leasts):
     """The least text of a form, or of another item of a rest, by those of names; None where they lead to none."""
+    return folded(item, inner_items, lambda part, inner: _told_least(part, inner, leasts))
+
+
+def _told_least(item, inner, leasts):
+    """The least text of an item, by the list of those of the items right within it."""
     word = item[0]
     if word == "text":
         return item[1]
@@ -50,14 +57,14 @@ def least_of(item, leasts):
     if word == "counted":
         return "0" + item[1]
     if word == "due":
-        return _joined([item[2]] + [least_of(item[3], leasts)] * item[1])
+        return _joined([item[2]] + inner * item[1])
     if word == "row":
-        return _joined([least_of(inner, leasts) for inner in item[1]])
+        return _joined(inner)
     if word == "either":
-        return _least([least_of(inner, leasts) for _, inner in item[1]])
+        return _least(inner)
     if word == "named":
         return leasts.get(item[1])
-    return least_of(item[1], leasts)
+    return inner[0]
 
 
 def lesser_first(texts):

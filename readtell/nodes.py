@@ -7,6 +7,8 @@ arms are told as show all that may begin it, and all that may stand behind anyth
 """
 
 from readtell.books import names_met
+from readtell.folding import folded
+from readtell.forms import inner_forms
 from readtell.rows import form_table
 from readtell.signs import FIGURES
 
@@ -42,62 +44,67 @@ class Nodes:
 
 def _part_of(nodes, form):
     """The part of an arm that stands for this form."""
-    part = _PARTS[form[0]]
-    return part(nodes, form)
+    return folded(form, inner_forms, lambda inner, parts: _told_part(nodes, inner, parts))
 
 
-def _text_part(_, form):
+def _told_part(nodes, form, parts):
+    """The part that stands for a form, by the list of those for the forms right within it."""
+    told = _PARTS[form[0]]
+    return told(nodes, form, parts)
+
+
+# Each of these tells the part for a form of one word.
+
+
+def _text_part(nodes, form, parts):
     return form[1]
 
 
-def _inner_part(nodes, form):
-    return _part_of(nodes, form[1])
+def _inner_part(nodes, form, parts):
+    return parts[0]
 
 
-def _sign_part(nodes, form):
+def _sign_part(nodes, form, parts):
     return nodes.one_of(form[1])
 
 
-def _word_part(nodes, form):
+def _word_part(nodes, form, parts):
     one = nodes.one_of(form[1])
     return nodes.made([(None, (one, nodes.loop((one,))))])
 
 
-def _number_part(nodes, _):
+def _number_part(nodes, form, parts):
     more = nodes.loop((nodes.one_of(FIGURES),))
     return nodes.made([(None, ("0",)), (None, (nodes.one_of(FIGURES[1:]), more))])
 
 
-def _pick_part(nodes, form):
+def _pick_part(nodes, form, parts):
     return nodes.made([(None, (text,)) for text, _ in form[1]])
 
 
-def _spelt_part(nodes, form):
-    return nodes.loop((_part_of(nodes, form[1]),))
+def _spelt_part(nodes, form, parts):
+    return nodes.loop((parts[0],))
 
 
-def _row_part(nodes, form):
-    return nodes.made([(None, tuple([_part_of(nodes, inner) for inner in form[1]]))])
+def _row_part(nodes, form, parts):
+    return nodes.made([(None, tuple(parts))])
 
 
-def _either_part(nodes, form):
-    choices = [_part_of(nodes, inner) for _, inner in form[1]]
-    return nodes.made([(choice, (part,)) for choice, part in enumerate(choices)])
+def _either_part(nodes, form, parts):
+    return nodes.made([(choice, (part,)) for choice, part in enumerate(parts)])
 
 
-def _again_part(nodes, form):
-    item = _part_of(nodes, form[1])
+def _again_part(nodes, form, parts):
+    item = parts[0]
     if form[2] is None:
         return nodes.loop((item,))
-    more = nodes.loop((_part_of(nodes, form[2]), item))
-    return nodes.made([(0, ()), (1, (item, more))])
+    return nodes.made([(0, ()), (1, (item, nodes.loop((parts[1], item))))])
 
 
-def _counted_part(nodes, form):
-    item = _part_of(nodes, form[2])
+def _counted_part(nodes, form, parts):
     arms = [(None, ("0", form[1]))]
     for figure in FIGURES[1:]:
-        arms.append((None, (figure, _behind_figure(nodes, figure, form[1], item))))
+        arms.append((None, (figure, _behind_figure(nodes, figure, form[1], parts[0]))))
     return nodes.made(arms)
 
 
@@ -112,7 +119,7 @@ def _behind_figure(nodes, figure, text, item):
     return nodes.made(arms)
 
 
-def _named_part(nodes, form):
+def _named_part(nodes, form, parts):
     return nodes.roots[form[1]]
 
 

@@ -4,6 +4,7 @@ An item is a form, ("left", texts), one of which is to stand there, or ("due", d
 form behind the figure d.
 """
 
+from readtell.forms import inner_forms
 from readtell.signs import FIGURES
 
 
@@ -32,16 +33,23 @@ class Openings:
 
     def may_be_empty(self, item):
         """Whether the empty text is one of this item's."""
-        word = item[0]
-        if word in ("skip", "turned"):
-            return self.may_be_empty(item[1])
-        if word == "row":
-            return self.may_all_be_empty(item[1])
-        if word == "either":
-            return any(self.may_be_empty(inner) for _, inner in item[1])
-        if word == "named":
-            return self.empty[item[1]]
-        return word in ("spelt", "again")
+        # For each row and either that the item stands in: what would tell of all of it, and the forms not asked yet.
+        around = []
+        while True:
+            word = item[0]
+            if word in ("skip", "turned"):
+                item = item[1]
+                continue
+            if word in ("row", "either"):
+                around.append((word == "either", inner_forms(item)[::-1]))
+                empty = word == "row"
+            else:
+                empty = self.empty[item[1]] if word == "named" else word in ("spelt", "again")
+            while around and (around[-1][0] == empty or not around[-1][1]):
+                around.pop()
+            if not around:
+                return empty
+            item = around[-1][1].pop()
 
     def may_all_be_empty(self, items):
         """Whether the empty text is one of each item's."""

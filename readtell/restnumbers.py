@@ -33,8 +33,12 @@ class Rests:
     def numbered(self, items):
         """The list of the numbers of these items."""
         found = []
+        last = None
         for item in items:
-            number = self.numbers.number(item)
+            # A count has one item very many times.
+            if item != last:
+                number = self.numbers.number(item)
+                last = item
             if number not in self.item_of:
                 self.item_of[number] = item
                 self.signs[number] = self.openings.signs_of([item])

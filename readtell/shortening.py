@@ -4,16 +4,23 @@ from readtell.alikes import alike_names
 from readtell.books import names_met
 from readtell.changing import changed, renamed
 from readtell.forms import BARE
-from readtell.rows import form_table
+from readtell.rows import all_forms, form_table
 
 
 def shorter(book):
     """The book made as short as can be by the changes below."""
-    before = None
-    while book != before:
-        before = book
-        book = _without_alikes(_without_leading(_tidied(_of_names_met(book))))
+    book = _of_names_met(book)
+    size = None
+    # Each change leaves fewer forms, or, when the names that aren't met any more are gone, fewer names.
+    while size != _size(book):
+        size = _size(book)
+        book = _of_names_met(_without_alikes(_without_leading(_tidied(book))))
     return book
+
+
+def _size(book):
+    """How many forms a book has, and names."""
+    return len(book[1]) + sum([len(all_forms(form)) for _, form in book[1]])
 
 
 def _of_names_met(book):

@@ -345,6 +345,22 @@ class Lines(Desks):
         self.assertEqual(desk.say("change " + shown), "ok")
         self.assertEqual(desk.say("kept"), quoted(deep))
 
+    def test_deep_books(self):
+        nests = (
+            ("k(" * 600, "n", ")" * 600), ("k(" * 600, 't"a"', ")" * 600), ("r(" * 80, "n", ")" * 80), ("e(x:" * 80, "n", ")" * 80),
+            ("u(" * 200, "n", ",0=1)" * 200), ("r(" * 40 + "k(" * 300, "n", ")" * 340),
+        )
+        for begin, inner, end in nests:
+            told = "of a\na=" + begin + inner + end
+            desk = Desk(told)
+            short = desk.say("short")
+            self.assertEqual(Desk(short).say("short"), short)
+            self.assertEqual(desk.say("against " + short), "alike")
+            self.assertEqual(desk.say("against of a\na=t\"zz\""), 'parts "0"' if inner == "n" else 'parts "a"')
+            self.assertEqual(desk.say("more "), '"0"' if inner == "n" else '"a"')
+            self.assertEqual(desk.say("try x"), 'fails 0 "0123456789" no' if inner == "n" else 'fails 0 "a" no')
+            self.assertEqual(desk.say("count 1"), "0 10" if inner == "n" else "0 1")
+
     def test_the_same_as_the_functions(self):
         for asked, told, worth in TOLD:
             desk = Desk(book_text(asked))
