@@ -75,7 +75,7 @@ BOOKS = (
     ("of a\na=ma", book(a=A)), ("of b\na=n\nb=mb", ("b", (("a", NUMBER), ("b", B)))), ('of a\na=e(x:t"a",y:t"a")', book(a=("either", (("x", text("a")), ("y", text("a")))))),
     ("of a\na=a(r())", book(a=again(EMPTY))), ("of a\na=u(mb,0=1)\nb=n", book(a=("turned", B, ((0, 1),)), b=NUMBER)),
     ('of a\na=c"1"n', book(a=("counted", "1", NUMBER))), ("of abcdefgh\nabcdefgh=n", ("abcdefgh", (("abcdefgh", NUMBER),))),
-    ('of a\na=e(eightful:t"\\n%")'.replace(chr(37), "~"), book(a=("either", (("eightful", text("\n~")),)))),
+    ('of a\na=e(eightful:t"\\n~")', book(a=("either", (("eightful", text("\n~")),)))),
 )
 
 

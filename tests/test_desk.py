@@ -68,7 +68,7 @@ class Words(Desks):
     def test_read(self):
         desk = Desk(LIST_TEXT)
         self.both(desk, "read []", "(())")
-        self.both(desk, "read [1,  20,[3]]", '((("aa",1),("aa",20),("ab",((("aa",3),),))),)'.replace(",)", ")"))
+        self.both(desk, "read [1,  20,[3]]", '((("aa",1),("aa",20),("ab",((("aa",3))))))')
         self.no(desk, "read ", Fails, 0, "[", False)
         self.no(desk, "read [1", Fails, 2, ",0123456789]", False)
         self.no(desk, "read  []", Fails, 0, "[", False)
@@ -198,7 +198,7 @@ class Words(Desks):
     def test_against(self):
         desk = Desk(LIST_TEXT)
         self.both(desk, "against " + LIST_TEXT, "alike")
-        self.both(desk, "against " + 'of x\nx=r(t"[",a(y,k(r(t",",z))),t"]")\ny=e(aa:mx,no:n)\nz=ls" "'.replace("a(y", "a(my").replace(",z)", ",mz)"), "alike")
+        self.both(desk, 'against of x\nx=r(t"[",a(my,k(r(t",",mz))),t"]")\ny=e(aa:mx,no:n)\nz=ls" "', "alike")
         self.both(desk, "against of a\na=t\"[]\"", 'parts "[0]"')
         self.both(desk, "against of a\na=n", 'parts "0"')
         self.both(desk, "against " + show_book(TEXTS), 'parts ""')
@@ -246,7 +246,7 @@ class Kept(Desks):
 
     def test_keep_and_change(self):
         desk = Desk(LIST_TEXT)
-        self.both(desk, "keep [1,  2, [ 3".replace("[ 3", "[3") + "]]", "ok")
+        self.both(desk, "keep [1,  2, [3]]", "ok")
         self.both(desk, "kept", '"[1,  2, [3]]"')
         self.both(desk, "worth", thing_text(read(LIST, "[1,  2, [3]]")))
         self.says(desk, 'change ((("aa",1),("aa",5),("ab",((("aa",3))))))', "ok")

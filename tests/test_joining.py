@@ -25,20 +25,15 @@ PAIRS = ("pick", (("first", "()"), ("second", "(()())"), ("none", ""), ("third",
 JOINED = (
     (AB, book(a=WORD), "a", "a"), (AB, book(a=either(text("a"), text("b"))), "b", ("ab",)),
     (("sign", SIGNS), book(a=NUMBER), "7", 7), (("word", SIGNS), book(a=NUMBER), "120", 120),
-    (("word", SIGNS), BRACKETS, "(()(()))", ((((),), ((((),),),)),)), (("word", ",0123456789"), book(a=again(NUMBER, COMMA)), "1,20", (1, 20)),
+    (("word", SIGNS), BRACKETS, "(()(()))", read(BRACKETS, "(()(()))")), (("word", ",0123456789"), book(a=again(NUMBER, COMMA)), "1,20", (1, 20)),
     (("spelt", ("sign", SIGNS)), SUMS, "x", ((("ac", "x"), ("aa", ())), ("aa", ()))),
     (("spelt", ("sign", SIGNS)), book(a=SPELT), "", ""), (("spelt", ("sign", SIGNS)), book(a=again(NUMBER, COMMA)), "", ()),
     (STROKED, book(a=("spelt", ("sign", SIGNS))), "\\n\\\\a\\\"", "\n\\a\""),
     (LONG, book(a=again(NUMBER, COMMA)), "one.two.comma.three.", (12, 3)), (LONG, book(a=again(NUMBER, COMMA)), "", ()),
-    (LONG, BRACKETS, "(())", (((),),)),
-    (PAIRS, BRACKETS, "first", ((),)), (PAIRS, BRACKETS, "second", (((), ()),)), (PAIRS, book(a=SPELT), "none", ""),
+    (LONG, BRACKETS, "(())", read(BRACKETS, "(())")),
+    (PAIRS, BRACKETS, "first", read(BRACKETS, "()")), (PAIRS, BRACKETS, "second", read(BRACKETS, "(()())")), (PAIRS, book(a=SPELT), "none", ""),
     (PAIRS, book(a=NUMBER), "fourth", 7),
 )
-JOINED = tuple((form, other, told, worth) for form, other, told, worth in JOINED if other is not BRACKETS) + (
-    (("word", SIGNS), BRACKETS, "(()(()))", read(BRACKETS, "(()(()))")), (LONG, BRACKETS, "(())", read(BRACKETS, "(())")),
-    (PAIRS, BRACKETS, "first", read(BRACKETS, "()")), (PAIRS, BRACKETS, "second", read(BRACKETS, "(()())")),
-)
-
 # The one's form, the other book, a text, and what FailsWithin tells.
 WITHIN = (
     (AB, book(a=text("b")), "a", (0, 0, "b", False)), (AB, book(a=text("ab")), "a", (1, 1, "b", False)),
@@ -66,7 +61,7 @@ WITHIN = (
 # The one's form, a text that it has not, and what Fails tells.
 FAILING = (
     (AB, "", (0, "ab", False)), (AB, "c", (0, "ab", False)), (AB, "ab", (1, "", True)), (WORD, "", (0, "ab", False)), (WORD, "aab,", (3, "ab", True)),
-    (SPELT, "ab ", (2, "ab", True)), (LONG, "one.tw", (6, "o", False)), (LONG, "one.four", (4, "(),cot".replace(",", ""), True)),
+    (SPELT, "ab ", (2, "ab", True)), (LONG, "one.tw", (6, "o", False)), (LONG, "one.four", (4, "()cot", True)),
     (PAIRS, "sec", (3, "o", False)), (PAIRS, "f", (1, "io", False)), (PAIRS, "firsts", (5, "", True)), (STROKED, "\\x", (1, "\"\\n", False)),
 )
 
