@@ -4,7 +4,7 @@ from readtell.leasts import lesser_first
 from readtell.papers import Paper
 from readtell.pieces import paper_by_pieces
 from readtell.restleasts import RestLeasts
-from readtell.restpairs import NOTHING, RestPairs
+from readtell.restpairs import RestPairs, is_nothing
 
 
 def held(one, other, most):
@@ -64,7 +64,7 @@ class Search:
 
     def meet(self, text, pair):
         """Notes a pair behind a text, and the least text that it shows to be just one book's."""
-        if pair in self.met or pair == NOTHING:
+        if pair in self.met or is_nothing(pair):
             return
         self.met[pair] = True
         self.coming.append((text, pair))

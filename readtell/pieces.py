@@ -2,7 +2,7 @@
 
 from readtell.restleasts import RestLeasts
 from readtell.restnumbers import EMPTY
-from readtell.restpairs import NOTHING
+from readtell.restpairs import is_nothing
 
 
 def paper_by_pieces(pairs, most):
@@ -36,7 +36,7 @@ class Cutter:
     def pieces(self, pair):
         """The list of the pairs into which a pair is cut, the pair alone where no such cut is found."""
         if pair not in self.found:
-            pieces = [piece for piece in self.cut(pair) if piece != NOTHING]
+            pieces = [piece for piece in self.cut(pair) if not is_nothing(piece)]
             self.found[pair] = pieces if all(self.pairs.look_alike(piece) for piece in pieces) else [pair]
         return self.found[pair]
 

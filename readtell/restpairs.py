@@ -2,8 +2,10 @@
 
 from readtell.restnumbers import EMPTY, Rests
 
-# The pair of two rests without items.
-NOTHING = (EMPTY, EMPTY)
+
+def is_nothing(pair):
+    """Whether this is the pair of two rests without items."""
+    return pair == (EMPTY, EMPTY)
 
 
 class RestPairs:
