@@ -7,7 +7,7 @@ from readtell.looking import verdict
 from tests.asking import Asking
 from tests.making import Maker
 from tests.samples import (
-    A, AB, B, COMMA, EMPTY, LET_BOOKS, NUMBER, PICK, SPELT, VALUES, WORD, again, book, counted, either, row, skip, text,
+    A, AB, B, COMMA, EMPTY, LET_BOOKS, NUMBER, VALUES, WORD, again, book, counted, either, row, skip, text,
 )
 from tests.test_forms import FORMS, within
 from tests.test_holding import OTHERWISE

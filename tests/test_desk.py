@@ -13,11 +13,10 @@ from readtell.numbering import number_of, text_at
 from readtell.reading import read
 from readtell.shortening import shorter
 from readtell.telling import tell
-from readtell.thingtexts import show_thing
 from tests.asking import Asking, is_plain
 from tests.book_by_hand import book_text, quoted, thing_text
 from tests.samples import (
-    A, AB, B, BRACKETS, COMMA, COUNTS, EMPTY, LET_BOOKS, NUMBER, SPELT, SUMS, TOLD, VALUES, WORD, again, book, either, row,
+    A, AB, B, BRACKETS, COMMA, COUNTS, LET_BOOKS, NUMBER, SUMS, TOLD, VALUES, again, book, either, row,
     skip, text,
 )
 from tests.test_booktexts import BOOKS, FAILING, NO_BOOKS

@@ -11,7 +11,7 @@ from readtell.reading import read
 from readtell.telling import tell
 from tests.asking import OTHER_KINDS, Asking, nested, snapshot
 from tests.samples import (
-    A, AB, B, BRACKETS, COMMA, EMPTY, LETTERS, NUMBER, QUOTED, SPELT, SUMS, VALUES, WORD, again, book, counted, either, row,
+    A, AB, B, BRACKETS, COMMA, EMPTY, NUMBER, QUOTED, SPELT, SUMS, VALUES, WORD, again, book, counted, either, row,
     skip, text,
 )
 from tests.test_forms import SIGNS
